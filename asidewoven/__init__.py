@@ -1,0 +1,1 @@
+"""Asidewoven: asides found by the pile, woven in without it."""

@@ -1,0 +1,136 @@
+"""Any value may be asked of; nothing that is passed is changed; equal calls tell the same ([A3])."""
+
+import copy
+import unittest
+
+from asidewoven.errors import BadAside, Unfit
+from asidewoven.programs import asides_error, body_at, letters_of, program_error, rows_of
+from samples import NO_TUPLES, ONE, REST, RIGHT_EXPRESSIONS, RIGHT_ROWS, WRONG_EXPRESSIONS, WRONG_ROWS, wide
+
+PROGRAM = wide(*RIGHT_ROWS)
+ASIDE = (5, "around", (("call", None), ("get", 1)), ("row", (("any",), ("letters", (0, -6)))), ONE, (("on", 0, (ONE,)),))
+ASIDES = (ASIDE, (2, "before", (("tell", None),), ("star", ("any",)), ("v", 0), (REST, ("if", ONE, (REST,), ()))))
+
+
+def deep(make):
+    """A value that is nested twenty deep."""
+    value = 7
+    for _ in range(20):
+        value = make(value)
+    return value
+
+
+VALUES = NO_TUPLES + WRONG_ROWS + WRONG_EXPRESSIONS + RIGHT_ROWS + RIGHT_EXPRESSIONS + ASIDES + (
+    PROGRAM, ASIDES, REST, ONE, 10 ** 399, "x" * 20000, "cells none\nfunction 0\nend", ("",) * 4000, [None] * 3000,
+    {number: (number,) for number in range(1000)}, {(1, (2,)): [{}], None: "", True: False},
+    deep(lambda value: (value,)), deep(lambda value: [value]), deep(lambda value: {0: value}),
+    deep(lambda value: (value, [value]) if value == 7 else (value, ())), deep(lambda value: ("not", value)),
+    deep(lambda value: ("row", (value,)) if value != 7 else ("any",)), deep(lambda value: ("plus", value, ONE)),
+    deep(lambda value: ("if", ONE, (value,), ())), deep(lambda value: ("try", (), (), 0, (value,))),
+    rows_of(PROGRAM[1][-1][1]), letters_of(PROGRAM, ASIDES), (None, "rows"), ((0, 0), "row"),
+)
+
+
+def replaced(value, other):
+    """All values that come of value if one thing in it, at whatever depth in tuples, is exchanged for the other."""
+    yield other
+    if isinstance(value, tuple):
+        for at, item in enumerate(value):
+            for changed in replaced(item, other):
+                yield value[:at] + (changed,) + value[at + 1:]
+
+
+class AnyValue(unittest.TestCase):
+    def check_program_told(self, told):
+        """What program_error tells is one of the forms that the document has for it."""
+        if told is None or told in ("form", "cells", "functions") or told == (None, "rows"):
+            return
+        place, word = told
+        self.assertIs(place.__class__, tuple)
+        self.assertTrue(all(number.__class__ is int for number in place))
+        self.assertEqual(word, "function" if len(place) == 1 else "row")
+
+    def check_asides_told(self, told):
+        if told is None or told == "form":
+            return
+        place, word = told
+        self.assertIs(place.__class__, int)
+        self.assertIn(word, ("aside", "moments", "part", "test", "rows", "name"))
+
+    def test_no_value_raises_an_error(self):
+        for value in VALUES:
+            with self.subTest(value=repr(value)[:200]):
+                self.check_program_told(program_error(value))
+                self.check_asides_told(asides_error(PROGRAM, value))
+
+    def test_no_value_in_a_place_of_a_program_raises_one(self):
+        small = ((7,), ((1, (("try", (REST,), (1,), 0, (("call", 0, 0, (ONE,)),)),)), (0, (("get", 0, 0),))))
+        for other in VALUES:
+            for value in replaced(small, other):
+                with self.subTest(value=repr(value)[:200]):
+                    self.check_program_told(program_error(value))
+
+    def test_no_value_in_a_place_of_asides_raises_one(self):
+        for other in VALUES:
+            for value in replaced((ASIDE,), other):
+                with self.subTest(value=repr(value)[:200]):
+                    self.check_asides_told(asides_error(PROGRAM, value))
+
+    def test_a_thing_of_the_package(self):
+        for value in (Unfit(), BadAside(0, "name")):
+            self.assertEqual(program_error(value), "form")
+            self.assertEqual(asides_error(PROGRAM, value), "form")
+            self.assertEqual(program_error(((), ((0, (value,)),))), ((0, 0), "row"))
+            self.assertEqual(asides_error(PROGRAM, (value,)), (0, "aside"))
+
+
+class NothingChanges(unittest.TestCase):
+    def twice(self, call, *handed):
+        """The call with what is handed tells the same twice, and leaves that as it was."""
+        before, kept = repr(handed), copy.deepcopy(handed)
+        told = repr(call(*handed))
+        self.assertEqual(repr(call(*handed)), told)
+        self.assertEqual(repr(handed), before)
+        self.assertEqual(repr(call(*kept)), told)
+
+    def test_errors(self):
+        for value in VALUES:
+            with self.subTest(value=repr(value)[:200]):
+                self.twice(program_error, value)
+                self.twice(program_error, ((0,), ((0, (value,)),)))
+                self.twice(program_error, ((0,), ((0, (("if", ONE, (), (REST, value)),)),)))
+                self.twice(asides_error, PROGRAM, value)
+                self.twice(asides_error, PROGRAM, (ASIDE, value))
+                self.twice(asides_error, PROGRAM, (ASIDE[:5] + ((REST, value),),))
+
+    def test_what_is_in_programs_and_asides(self):
+        for _, rows in PROGRAM[1]:
+            self.twice(rows_of, rows)
+        self.twice(letters_of, PROGRAM, ASIDES)
+        for letter in letters_of(PROGRAM, ASIDES):
+            self.twice(body_at, PROGRAM, ASIDES, letter)
+
+    def test_an_error_raised_changes_nothing(self):
+        before = repr((PROGRAM, ASIDES))
+        for _ in range(2):
+            with self.assertRaises(Unfit):
+                body_at(PROGRAM, ASIDES, 5)
+        self.assertEqual(repr((PROGRAM, ASIDES)), before)
+        self.assertEqual(letters_of(PROGRAM, ASIDES), (-6, -3, 0, 1, 2, 3, 4))
+
+    def test_by_name(self):
+        for value in VALUES:
+            with self.subTest(value=repr(value)[:200]):
+                self.assertEqual(repr(program_error(value=value)), repr(program_error(value)))
+                told = repr(asides_error(PROGRAM, value))
+                self.assertEqual(repr(asides_error(program=PROGRAM, value=value)), told)
+                self.assertEqual(repr(asides_error(value=value, program=PROGRAM)), told)
+
+    def test_all_that_is_right_is_told_as_right(self):
+        self.assertIsNone(program_error(PROGRAM))
+        self.assertIsNone(asides_error(PROGRAM, ASIDES))
+        self.assertIsNone(asides_error(PROGRAM, ASIDES[::-1]))
+
+
+if __name__ == "__main__":
+    unittest.main()
