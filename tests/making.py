@@ -1,10 +1,14 @@
 """Makes programs, asides and pile parts for tests, out of seeds: the same ones each time."""
 
-from asidewoven.parts import is_part
 from asidewoven.programs import asides_error, program_error
 
 WORDS = ("set", "get", "put", "call", "if", "try", "tell", "ask", "answer", "rest", "fault")
 NUMBERS = (0, 1, 2, -1, 3, 7, 10 ** 18, -(10 ** 18), 10 ** 9)
+
+
+def is_part(value):
+    aside = (0, "before", (("tell", None),), value, ("n", 1), ())
+    return asides_error(((), ((0, ()),)), (aside,)) is None
 
 
 class Making:

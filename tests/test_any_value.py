@@ -3,8 +3,9 @@
 import copy
 import unittest
 
-from asidewoven.errors import BadAside, Unfit
+from asidewoven.errors import BadAside, BadProgram, BadText, Unfit
 from asidewoven.programs import asides_error, body_at, letters_of, program_error, rows_of
+from asidewoven.texts import asides_text, parse_asides, parse_program, program_text
 from samples import NO_TUPLES, ONE, REST, RIGHT_EXPRESSIONS, RIGHT_ROWS, WRONG_EXPRESSIONS, WRONG_ROWS, wide
 
 PROGRAM = wide(*RIGHT_ROWS)
@@ -82,6 +83,39 @@ class AnyValue(unittest.TestCase):
             self.assertEqual(asides_error(PROGRAM, value), "form")
             self.assertEqual(program_error(((), ((0, (value,)),))), ((0, 0), "row"))
             self.assertEqual(asides_error(PROGRAM, (value,)), (0, "aside"))
+
+
+class AnyText(unittest.TestCase):
+    TEXTS = ("x" * 20000, "\n" * 20000, "(" * 20000, "if 1\n" * 4000, "cells 0" + "\nfunction 0\nend" * 1200, "~ !\n{}")
+
+    def told(self, call, *handed):
+        """What the call returns, or the error with its attributes."""
+        try:
+            return call(*handed)
+        except (BadAside, BadProgram, BadText) as error:
+            return (error.__class__.__name__, vars(error))
+
+    def test_what_is_no_string(self):
+        for value in VALUES:
+            if not isinstance(value, str):
+                with self.subTest(value=repr(value)[:200]):
+                    self.assertEqual(self.told(parse_program, value), ("BadText", {"line": 0}))
+                    self.assertEqual(self.told(parse_asides, PROGRAM, value), ("BadText", {"line": 0}))
+
+    def test_what_is_a_string(self):
+        for text in self.TEXTS + tuple(value for value in VALUES if isinstance(value, str)):
+            with self.subTest(text=text[:200]):
+                for call, handed in ((parse_program, (text,)), (parse_asides, (PROGRAM, text))):
+                    told = self.told(call, *handed)
+                    self.assertIs(told.__class__, tuple)
+                    self.assertEqual(repr(self.told(call, *handed)), repr(told))
+
+    def test_what_was_written(self):
+        for _ in range(2):
+            self.assertEqual(parse_program(program_text(PROGRAM)), PROGRAM)
+            self.assertEqual(parse_asides(PROGRAM, asides_text(ASIDES)), ASIDES)
+        self.assertEqual(self.told(parse_program, asides_text(ASIDES)), ("BadText", {"line": 0}))
+        self.assertEqual(self.told(parse_asides, PROGRAM, program_text(PROGRAM)), ("BadText", {"line": 0}))
 
 
 class NothingChanges(unittest.TestCase):

@@ -1,8 +1,10 @@
 """The bounds, the errors and the functions of the interface: names, values, arguments."""
 
+import importlib
+import inspect
 import unittest
 
-from asidewoven import bounds, errors, programs
+from asidewoven import bounds, errors
 
 BOUNDS = {
     "MAX_NUMBER": 10 ** 18,
@@ -40,12 +42,79 @@ ERRORS = {
     "NoVersion": ("given",),
 }
 
+RUN = ("program", "asides", "inputs", "steps")
+
 FUNCTIONS = {
-    "program_error": ("value",),
-    "asides_error": ("program", "value"),
-    "rows_of": ("rows",),
-    "letters_of": ("program", "asides"),
-    "body_at": ("program", "asides", "letter"),
+    "programs": {
+        "program_error": ("value",),
+        "asides_error": ("program", "value"),
+        "rows_of": ("rows",),
+        "letters_of": ("program", "asides"),
+        "body_at": ("program", "asides", "letter"),
+    },
+    "texts": {
+        "program_text": ("program",),
+        "parse_program": ("value",),
+        "asides_text": ("asides",),
+        "parse_asides": ("program", "value"),
+    },
+    "machine": {"run": RUN, "moments": RUN, "openings": RUN},
+    "piles": {
+        "has_pile": ("part", "pile"),
+        "pile_machine": ("part", "letters"),
+        "unlike_pile": ("part", "other", "letters"),
+        "first_pile": ("part", "letters"),
+    },
+    "fits": {
+        "fits_at": ("asides", "kind", "number", "pile"),
+        "states_at": ("program", "asides", "pile"),
+        "settled": ("program", "asides", "kind", "number"),
+    },
+}
+
+HANDED = {
+    "program": ((1,), ((1, (("tell", ("v", 0)),)), (0, (("call", 0, 0, (("n", 7),)),)))),
+    "asides": ((4, "around", (("tell", None),), ("any",), ("n", 1), (("on", 0, ()),)),),
+    "rows": (("on", 0, ()),),
+    "letter": -5,
+    "inputs": (1, 2),
+    "steps": 9,
+    "part": ("row", (("any",), ("letters", (0,)))),
+    "other": ("any",),
+    "pile": (1, 0),
+    "letters": (0, 1),
+    "kind": "tell",
+    "number": None,
+}
+
+# What is handed for value.
+VALUES = {
+    "program_error": HANDED["program"],
+    "asides_error": HANDED["asides"],
+    "parse_program": "cells none\nfunction 0\nend",
+    "parse_asides": "aside 4 around\nmoments tell\npart any\ntest 1\non 0\nend",
+}
+
+TOLD = {
+    "program_error": None,
+    "asides_error": None,
+    "rows_of": (((0,), ("on", 0, ())),),
+    "letters_of": (-5, 0, 1),
+    "body_at": (("on", 0, ()),),
+    "program_text": "cells 1\nfunction 1\ntell v0\nend\nfunction 0\ncall 0 0 7\nend",
+    "parse_program": ((), ((0, ()),)),
+    "asides_text": VALUES["parse_asides"],
+    "parse_asides": HANDED["asides"],
+    "run": ((("tell", 7),), ("answer", 0), 2),
+    "moments": (("call", 0, (7,), (1,), ()), ("tell", None, (7,), (1, 0), ())),
+    "openings": ((1,), (1, 0)),
+    "has_pile": True,
+    "pile_machine": (((1, 1), (2, 3), (3, 3), (3, 3)), (False, False, True, False)),
+    "unlike_pile": (0,),
+    "first_pile": (0, 0),
+    "fits_at": (),
+    "states_at": (2,),
+    "settled": ("pile",),
 }
 
 
@@ -110,32 +179,30 @@ class Errors(unittest.TestCase):
 
 
 class Functions(unittest.TestCase):
-    PROGRAM = ((1,), ((1, (("tell", ("v", 0)),)), (0, (("rest",),))))
-    ASIDE = (4, "around", (("tell", None),), ("any",), ("n", 1), (("on", 0, ()),))
+    def functions(self):
+        """Each function with its name, its module and its arguments."""
+        for module, functions in FUNCTIONS.items():
+            for name, arguments in functions.items():
+                with self.subTest(module=module, name=name):
+                    yield getattr(importlib.import_module(f"asidewoven.{module}"), name), name, module, arguments
+
+    def given(self, name, arguments):
+        return {argument: VALUES[name] if argument == "value" else HANDED[argument] for argument in arguments}
 
     def test_each_is_defined_in_its_module(self):
-        for name in FUNCTIONS:
-            with self.subTest(name=name):
-                function = getattr(programs, name)
-                self.assertEqual((function.__name__, function.__module__), (name, "asidewoven.programs"))
+        for function, name, module, arguments in self.functions():
+            self.assertEqual((function.__name__, function.__module__), (name, f"asidewoven.{module}"))
+            self.assertEqual(tuple(inspect.signature(function).parameters), arguments)
 
     def test_by_place_and_by_name_the_same_is_told(self):
-        handed = {"program": self.PROGRAM, "asides": (self.ASIDE,), "letter": -5, "rows": self.ASIDE[5]}
-        told = {
-            "program_error": None,
-            "asides_error": None,
-            "rows_of": (((0,), ("on", 0, ())),),
-            "letters_of": (-5, 0, 1),
-            "body_at": (("on", 0, ()),),
-        }
-        for name, arguments in FUNCTIONS.items():
-            with self.subTest(name=name):
-                value = self.PROGRAM if name == "program_error" else (self.ASIDE,)
-                given = {argument: value if argument == "value" else handed[argument] for argument in arguments}
-                function = getattr(programs, name)
-                self.assertEqual(repr(function(*given.values())), repr(told[name]))
-                self.assertEqual(repr(function(**given)), repr(told[name]))
-                self.assertEqual(repr(function(**dict(reversed(list(given.items()))))), repr(told[name]))
+        for function, name, _, arguments in self.functions():
+            given = self.given(name, arguments)
+            before = repr(given)
+            for _ in range(2):
+                self.assertEqual(repr(function(*given.values())), repr(TOLD[name]))
+                self.assertEqual(repr(function(**given)), repr(TOLD[name]))
+                self.assertEqual(repr(function(**dict(reversed(list(given.items()))))), repr(TOLD[name]))
+            self.assertEqual(repr(given), before)
 
 
 if __name__ == "__main__":
