@@ -28,3 +28,24 @@ def is_expression(value, depth=EXPRESSION_DEPTH):
 def are_expressions(value):
     """Whether value is a tuple of expressions, no more than there are slots."""
     return is_tuple_of(value, 0, SLOTS) and all([is_expression(item) for item in value])
+
+
+def fault_kinds(expressions):
+    """The kinds of faults that reckoning these expressions can have, ascending."""
+    words = []
+    for expression in expressions:
+        _find_operations(expression, words)
+    kinds = []
+    if "plus" in words or "less" in words or "times" in words:
+        kinds.append(0)
+    if "part" in words:
+        kinds.append(1)
+    return tuple(kinds)
+
+
+def _find_operations(expression, words):
+    """Adds to words the operations of an expression."""
+    if len(expression) == 3:
+        words.append(expression[0])
+        _find_operations(expression[1], words)
+        _find_operations(expression[2], words)

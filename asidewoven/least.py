@@ -56,7 +56,6 @@ def _lots(rows, fits):
     """For each state the number of the lot of states that are alike."""
     lots = [1 if fit else 0 for fit in fits]
     known = 0
-    numbers = {}
     # States of one lot stay together as long as each letter leads them to one lot; lots are only ever cut.
     while True:
         numbers = {}

@@ -2,7 +2,9 @@
 
 from asidewoven.programs import asides_error, program_error
 
-WORDS = ("set", "get", "put", "call", "if", "try", "tell", "ask", "answer", "rest", "fault")
+WORDS = ("set", "get", "put", "call", "if", "try", "tell", "ask", "answer", "rest", "fault") + ("call", "tell", "get", "put")
+# For programs in which bodies come behind one another, and few end early.
+LIVELY = ("call",) * 6 + ("tell", "tell", "get", "put", "set", "if", "try", "ask", "answer", "rest")
 NUMBERS = (0, 1, 2, -1, 3, 7, 10 ** 18, -(10 ** 18), 10 ** 9)
 
 
@@ -14,10 +16,11 @@ def is_part(value):
 class Making:
     """What is made hangs on the source (random.Random of a seed) and on what was made of it ahead of that."""
 
-    def __init__(self, source, cells=2, parameters=(2, 1, 0)):
+    def __init__(self, source, cells=2, parameters=(2, 1, 0), words=WORDS):
         self.source = source
         self.cells = cells
         self.parameters = parameters
+        self.words = words
 
     def expression(self, depth=3):
         pick = self.source.random()
@@ -28,11 +31,11 @@ class Making:
         word = self.source.choice(("plus", "less", "times", "part", "below", "same"))
         return (word, self.expression(depth - 1), self.expression(depth - 1))
 
-    def rows(self, most, with_on=False, within=0):
-        return tuple(self.row(with_on, within) for _ in range(self.source.randint(0, most)))
+    def rows(self, most, with_on=False, within=0, least=0):
+        return tuple(self.row(with_on, within) for _ in range(self.source.randint(least, most)))
 
     def row(self, with_on, within):
-        word = self.source.choice(WORDS + (("on",) * 5 if with_on else ()) + ("call", "tell", "get", "put"))
+        word = self.source.choice(self.words + (("on",) * 5 if with_on else ()))
         slot = self.source.randrange(4)
         if word in ("if", "try") and within == 3:
             word = "rest"
@@ -62,9 +65,10 @@ class Making:
             return (word, slot, tuple(self.expression(2) for _ in range(self.source.choice((0, 0, 1, 2, 3)))))
         return ("rest",)
 
-    def program(self):
+    def program(self, least=0):
+        """A program each of whose functions has so many rows at least."""
         numbers = tuple(self.source.choice(NUMBERS) for _ in range(self.cells))
-        made = (numbers, tuple((many, self.rows(4)) for many in self.parameters))
+        made = (numbers, tuple((many, self.rows(4, False, 0, least)) for many in self.parameters))
         assert program_error(made) is None, made
         return made
 
@@ -88,6 +92,16 @@ class Making:
         many = self.source.randint(1, min(4, most - 1))
         return (word, tuple(self._part(letters, (most - 1) // many, depth - 1) for _ in range(many)))
 
+    def telling_part(self, letters):
+        """A pile part that has some of the piles that runs come to, and often not all."""
+        every, some = ("star", ("any",)), ("letters", tuple(self.source.sample(letters, self.source.randint(1, 2))))
+        made = self.source.choice((
+            ("row", (every, some, every)), ("row", (every, some)), ("row", (every, some, ("any",))), ("star", ("any",)),
+            ("star", ("row", (("any",), ("any",)))), ("row", (("any",), some, every)), ("row", (every, some, ("star", some))),
+            ("row", (("star", ("row", (("any",), ("any",), ("any",)))), some)), some,
+        ))
+        return ("not", made) if self.source.random() < 0.3 else made
+
     def moment(self):
         kind = self.source.choice(("call", "call", "get", "put", "tell", "ask") if self.cells else ("call", "tell", "ask"))
         if kind in ("tell", "ask"):
@@ -95,17 +109,21 @@ class Making:
         number = self.source.randrange(len(self.parameters) if kind == "call" else self.cells)
         return (kind, number if self.source.random() < 0.7 else None)
 
-    def asides(self, program, many):
+    def asides(self, program, many, telling=False):
+        """So many asides; telling is whether their parts are telling ones."""
         names = self.source.sample(range(8), many)
         letters = tuple(range(len(self.parameters))) + tuple(-1 - name for name in names)
-        made = tuple(self.aside(name, letters) for name in names)
+        made = tuple(self.aside(name, letters, telling) for name in names)
         assert asides_error(program, made) is None, made
         return made
 
-    def aside(self, name, letters):
+    def aside(self, name, letters, telling):
         form = self.source.choice(("before", "behind", "around"))
         moments = tuple(self.moment() for _ in range(self.source.randint(1, 3)))
         everywhere = ("star", ("any",))
-        part = everywhere if self.source.random() < 0.4 else self.part(letters)
+        if telling:
+            part = self.telling_part(letters)
+        else:
+            part = everywhere if self.source.random() < 0.4 else self.part(letters)
         test = self.expression() if self.source.random() < 0.5 else ("n", self.source.choice((0, 1, 1, 1, 2)))
         return (name, form, moments, part, test, self.rows(3, form == "around"))
