@@ -39,7 +39,7 @@ def read_part(words, depth=PART_DEPTH):
 def read_moments(words):
     """Takes moments up to the end of the line, one at least."""
     moments = [_read_moment(words)]
-    while not words.ended():
+    while not words.is_over():
         moments.append(_read_moment(words))
     return tuple(moments)
 

@@ -27,7 +27,7 @@ class Watched(FreeRun):
         if self.watched is not None and self.till is None and len(self.bodies) < self.depth:
             self.till = len(self.notes)
 
-    def node(self, forms):
+    def node_watched(self, forms):
         """The node of the body watched, None if there is none."""
         body = self.watched
         if body is None:
@@ -65,7 +65,7 @@ def opens_node(program, asides, forms, choices, node):
     """Whether the last of the choices opens a body whose node is this one."""
     run = Watched(PileGround(program, asides), choices, len(choices))
     run.go()
-    return run.node(forms) == node
+    return run.node_watched(forms) == node
 
 
 def notes_behind(program, asides, choices, further):

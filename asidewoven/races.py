@@ -39,14 +39,13 @@ class Side:
 class Race:
     """The race of two nodes of one letter, by what is known of the races of those that they open.
 
-    outcomes are told by "answer", "end", or the kind of a fault. pairing tells the pair of two nodes of which a race
-    is kept.
+    outcomes are told by "answer", "end", or the kind of a fault. lots has the class of each node.
     """
 
-    def __init__(self, forms, pair, pairing, known):
+    def __init__(self, forms, lots, pair, known):
         self.forms = forms
+        self.lots = lots
         self.pair = pair
-        self.pairing = pairing
         self.known = known
         self.outcomes = {}
         self.openings = {}
@@ -186,7 +185,8 @@ class Race:
         """The outcomes of two bodies opened at the end of this way."""
         if way is None:
             return {}
-        pair = self.pairing(node, other)
+        # If the two are alike, one stands for both.
+        pair = (node, node) if self.lots[node] == self.lots[other] else (node, other)
         _keep(self.openings, pair, way)
         outcomes = self.known.get(pair, {})
         return _without_none({outcome: joined(way, outcomes[outcome]) for outcome in outcomes})
@@ -210,10 +210,6 @@ class Races:
             self.queued[self.waiting[at]] = False
             self._run(self.waiting[at])
             at += 1
-
-    def pairing(self, node, other):
-        """The pair of two nodes; if they are alike, one stands for both."""
-        return (node, node) if self.lots[node] == self.lots[other] else (node, other)
 
     def ways_from(self, pair, way):
         """The shortest ways to all pairs that are opened behind this one, from a way to it."""
@@ -244,7 +240,7 @@ class Races:
             self.waiting.append(pair)
 
     def _run(self, pair):
-        race = Race(self.forms, pair, self.pairing, self.known)
+        race = Race(self.forms, self.lots, pair, self.known)
         self.races[pair] = race
         for further in race.openings:
             self._come_to(further)

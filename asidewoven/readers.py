@@ -45,7 +45,7 @@ class Numbered:
         self.fits = [False, True]
         self.numbers = {"dead": 0, "full": 1}
         self.steps = {}
-        self.start = self._number_of(rule.first())
+        self.start = self._number_of(rule.beginning())
 
     def behind(self, state, group):
         if state in (self.dead, self.full):
@@ -73,7 +73,7 @@ class Choice:
         self.how = word
         self.inners = inners
 
-    def first(self):
+    def beginning(self):
         return self._settled(tuple([inner.start for inner in self.inners]))
 
     def moved(self, shape, group):
@@ -111,7 +111,7 @@ class Row:
             all([further.has(further.start) for further in inners[place + 1:]]) for place in range(len(inners))
         ]
 
-    def first(self):
+    def beginning(self):
         return self._begun([(0, self.inners[0].start)])
 
     def moved(self, shape, group):
@@ -142,7 +142,7 @@ class Star:
     def __init__(self, inner):
         self.inner = inner
 
-    def first(self):
+    def beginning(self):
         return self._begun([], True)
 
     def moved(self, shape, group):

@@ -55,7 +55,7 @@ def _lines_of_row(row):
 
 def _read_row(lines, with_on, within):
     word = lines.ahead().take()
-    words = lines.begun(word)
+    words = lines.take_begun(word)
     if word not in ROW_ITEMS or (word == "on" and not with_on):
         raise BadText(words.place)
     if word in ("if", "try") and within == ROW_DEPTH:
@@ -92,7 +92,7 @@ def _read_try(lines, words, with_on, within):
     """Reads what is behind the word of a try."""
     words.finish()
     first = read_rows(lines, with_on, within)
-    catch = lines.begun("catch")
+    catch = lines.take_begun("catch")
     slot = catch.take_number()
     kinds = catch.take_numbers()
     second = read_rows(lines, with_on, within)

@@ -24,7 +24,7 @@ def parse_program(value):
     lines = Lines(value)
     cells = _read_cells(lines)
     functions = [_read_function(lines)]
-    while not lines.ended():
+    while not lines.is_over():
         functions.append(_read_function(lines))
     program = (cells, tuple(functions))
     error = program_error(program)
@@ -60,7 +60,7 @@ def parse_asides(program, value):
 
 
 def _read_cells(lines):
-    words = lines.begun("cells")
+    words = lines.take_begun("cells")
     if words.next_is("none"):
         words.take()
         words.finish()
@@ -70,7 +70,7 @@ def _read_cells(lines):
 
 
 def _read_function(lines):
-    words = lines.begun("function")
+    words = lines.take_begun("function")
     parameters = words.take_number()
     words.finish()
     rows = read_rows(lines, False)
@@ -84,21 +84,21 @@ def _read_asides(text):
         return ()
     lines = Lines(text)
     asides = []
-    while not lines.ended():
+    while not lines.is_over():
         asides.append(_read_aside(lines))
     return tuple(asides)
 
 
 def _read_aside(lines):
-    words = lines.begun("aside")
+    words = lines.take_begun("aside")
     name = words.take_number()
     form = words.take_one_of(FORMS)
     words.finish()
-    moments = read_moments(lines.begun("moments"))
-    words = lines.begun("part")
+    moments = read_moments(lines.take_begun("moments"))
+    words = lines.take_begun("part")
     part = read_part(words)
     words.finish()
-    words = lines.begun("test")
+    words = lines.take_begun("test")
     test = words.take_expression()
     words.finish()
     rows = read_rows(lines, True)

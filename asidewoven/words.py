@@ -16,15 +16,15 @@ class Words:
         self.place = place
         self.taken = 0
 
-    def ended(self):
+    def is_over(self):
         return self.taken == len(self.words)
 
     def next_is(self, word):
-        return not self.ended() and self.words[self.taken] == word
+        return not self.is_over() and self.words[self.taken] == word
 
     def take(self):
         """Takes the next word."""
-        if self.ended():
+        if self.is_over():
             raise BadText(self.place)
         self.taken += 1
         return self.words[self.taken - 1]
@@ -37,7 +37,7 @@ class Words:
         return word
 
     def finish(self):
-        if not self.ended():
+        if not self.is_over():
             raise BadText(self.place)
 
     def take_number(self):
@@ -46,7 +46,7 @@ class Words:
     def take_numbers(self):
         """Takes numbers up to the end of the line, perhaps none."""
         found = []
-        while not self.ended():
+        while not self.is_over():
             found.append(self.take_number())
         return tuple(found)
 
@@ -68,7 +68,7 @@ class Words:
     def take_expressions(self):
         """Takes expressions up to the end of the line, perhaps none."""
         found = []
-        while not self.ended():
+        while not self.is_over():
             found.append(self.take_expression())
         return tuple(found)
 
@@ -86,16 +86,16 @@ class Lines:
         self.lines = text.split("\n")
         self.taken = 0
 
-    def ended(self):
+    def is_over(self):
         return self.taken == len(self.lines)
 
     def ahead(self):
         """The words of the next line, which is not taken yet."""
-        if self.ended():
+        if self.is_over():
             raise BadText(self.taken)
         return Words(self.lines[self.taken], self.taken)
 
-    def begun(self, word):
+    def take_begun(self, word):
         """Takes the next line, which has to begin with the word; returns its words behind that."""
         words = self.ahead()
         words.take_one_of((word,))
@@ -104,7 +104,7 @@ class Lines:
 
     def only(self, word):
         """Takes the next line, which has to be the word and nothing else."""
-        self.begun(word).finish()
+        self.take_begun(word).finish()
 
 
 def number_told(word):

@@ -43,6 +43,7 @@ ERRORS = {
 }
 
 RUN = ("program", "asides", "inputs", "steps")
+NODES = ("program", "asides", "begins")
 
 FUNCTIONS = {
     "programs": {
@@ -70,6 +71,25 @@ FUNCTIONS = {
         "states_at": ("program", "asides", "pile"),
         "settled": ("program", "asides", "kind", "number"),
     },
+    "nodes": {
+        "nodes": NODES,
+        "ends": NODES,
+        "runnable": NODES + ("node",),
+        "chains": NODES + ("node",),
+        "all_chains": NODES,
+        "way_to": NODES + ("node",),
+        "way_holds": NODES + ("node", "value"),
+        "meeting": ("program", "asides", "a", "b"),
+        "dead": ("program", "asides"),
+        "ringing": ("program", "asides"),
+    },
+    "free": {"free_run": ("program", "asides", "choices")},
+    "classes": {
+        "classes": NODES,
+        "classes_hold": NODES + ("value",),
+        "parting": ("program", "asides", "node", "other"),
+        "parting_holds": ("program", "asides", "node", "other", "value"),
+    },
 }
 
 HANDED = {
@@ -85,10 +105,28 @@ HANDED = {
     "letters": (0, 1),
     "kind": "tell",
     "number": None,
+    "begins": ((1, 0),),
+    "a": 0,
+    "b": 0,
+    "choices": (0, 0, 1),
+    "node": (0, (2,), None, ()),
+}
+
+MAIN, UNDER = (1, (1,), None, ()), (0, (2,), None, ())
+
+# Function 0 of this one has two nodes, as an aside is run at its tell where 1 is below.
+PARTED = {
+    "program": ((), ((0, (("tell", ("n", 1)),)), (0, (("call", 0, 0, ()),)), (0, (("call", 0, 0, ()), ("call", 0, 1, ()))))),
+    "asides": ((0, "before", (("tell", None),), ("row", (("star", ("any",)), ("letters", (1,)), ("any",))), ("v", 0), ()),),
+    "node": (0, (0,), None, ()),
+    "other": (0, (2,), None, ()),
 }
 
 # What is handed for value.
 VALUES = {
+    "way_holds": (MAIN, UNDER),
+    "classes_hold": ((UNDER,), (MAIN,)),
+    "parting_holds": ((0, 0), (0, 0, 0, 0), ()),
     "program_error": HANDED["program"],
     "asides_error": HANDED["asides"],
     "parse_program": "cells none\nfunction 0\nend",
@@ -115,6 +153,21 @@ TOLD = {
     "fits_at": (),
     "states_at": (2,),
     "settled": ("pile",),
+    "nodes": (UNDER, MAIN),
+    "ends": ((UNDER, False, True, ()), (MAIN, False, True, (3,))),
+    "runnable": ((0,),),
+    "chains": (((0,), (), ("tell", None, None)),),
+    "all_chains": ((UNDER, (((0,), (), ("tell", None, None)),)), (MAIN, (((0,), (), ("call", 0, UNDER)),))),
+    "way_to": (UNDER,),
+    "way_holds": False,
+    "meeting": None,
+    "dead": (0,),
+    "ringing": None,
+    "free_run": ((("body", 1), ("body", 0), ("deed", "tell", None), ("end", 0), ("end", 1)), ()),
+    "classes": ((UNDER,), (MAIN,)),
+    "classes_hold": True,
+    "parting": ((0, 0), (0, 0, 0, 0), ()),
+    "parting_holds": True,
 }
 
 
@@ -187,7 +240,8 @@ class Functions(unittest.TestCase):
                     yield getattr(importlib.import_module(f"asidewoven.{module}"), name), name, module, arguments
 
     def given(self, name, arguments):
-        return {argument: VALUES[name] if argument == "value" else HANDED[argument] for argument in arguments}
+        handed = {**HANDED, **PARTED} if name.startswith("parting") else HANDED
+        return {argument: VALUES[name] if argument == "value" else handed[argument] for argument in arguments}
 
     def test_each_is_defined_in_its_module(self):
         for function, name, module, arguments in self.functions():
