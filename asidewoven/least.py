@@ -5,27 +5,34 @@ from asidewoven.readers import Table, joined_reader, leaf_reader
 
 # A reader of a part within others is made least if it has at most so many states; above it that would not pay.
 MOST_TO_TRY = 256
+# The states of a least table are compared with one another if they are at most so many.
+MOST_TO_COMPARE = 32
+# How often one letter is put on a pile to see that states are unlike.
+FURTHER_LETTERS = 30
 
 
-def least_reader(part, firsts):
-    """The reader of a part with as few states as can be, numbered in the order in which they first come."""
-    return least_table(_outlined(part, firsts), len(firsts), None)
+def least_reader(part, firsts, most):
+    """The reader of a part with as few states as can be, numbered as they first come; None if that are more than most.
+
+    firsts are the first letters of the groups.
+    """
+    reader = _outlined(part, firsts)
+    table = _least_table(reader, len(firsts), MOST_TO_TRY)
+    # All states of a reader can be very many; often a look at the first ones is enough.
+    if table is None and not _are_surely_more(reader, len(firsts), most):
+        table = _least_table(reader, len(firsts), None)
+    return None if table is None or len(table.rows) > most else table
 
 
 def small_reader(part, firsts):
     """A reader of a part; it has as few states as can be if there are few."""
     reader = _outlined(part, firsts)
-    table = least_table(reader, len(firsts), MOST_TO_TRY)
-    return reader if table is None else table
-
-
-def least_table(reader, many, most):
-    """The least table of a reader over so many groups; None if the reader has more than most states."""
-    explored = _explored(reader, many, most)
-    if explored is None:
-        return None
-    rows, fits = explored
-    return _numbered(rows, fits, _lots(rows, fits), many)
+    table = _least_table(reader, len(firsts), MOST_TO_TRY)
+    if table is None:
+        return reader
+    if len(table.rows) <= MOST_TO_COMPARE:
+        table.wider = _wider_states(table)
+    return table
 
 
 def _outlined(part, firsts):
@@ -33,14 +40,24 @@ def _outlined(part, firsts):
     return joined_reader(part, inners) if len(inners) > 0 else leaf_reader(part, firsts)
 
 
+def _least_table(reader, many, most):
+    """The least table of a reader over so many groups; None if the reader has more than most states."""
+    states, rows = _explored(reader, many, most)
+    if len(rows) < len(states):
+        return None
+    fits = [reader.has(state) for state in states]
+    return _numbered(rows, fits, _lots(rows, fits), many)
+
+
 def _explored(reader, many, most):
-    """The rows and the fits of all states come to, numbered as they come; None if there are more than most."""
+    """The states come to, and the rows of those with all states behind them, by their numbers in that order.
+
+    If there are more than most states, these are not all.
+    """
     numbers = {reader.start: 0}
     states = [reader.start]
     rows = []
-    while len(rows) < len(states):
-        if most is not None and len(states) > most:
-            return None
+    while len(rows) < len(states) and (most is None or len(states) <= most):
         row = []
         for group in range(many):
             further = reader.behind(states[len(rows)], group)
@@ -49,7 +66,23 @@ def _explored(reader, many, most):
                 states.append(further)
             row.append(numbers[further])
         rows.append(tuple(row))
-    return rows, [reader.has(state) for state in states]
+    return states, rows
+
+
+def _are_surely_more(reader, many, most):
+    """Whether more than most of the first states are unlike by what one letter, again and again, leads to."""
+    states, _ = _explored(reader, many, MOST_TO_TRY)
+    return len(set([_marks(reader, many, state) for state in states])) > most
+
+
+def _marks(reader, many, state):
+    marks = []
+    for group in range(many):
+        further = state
+        for _ in range(FURTHER_LETTERS):
+            marks.append(reader.has(further))
+            further = reader.behind(further, group)
+    return tuple(marks)
 
 
 def _lots(rows, fits):
@@ -86,3 +119,22 @@ def _numbered(rows, fits, lots, many):
             row.append(numbers[lots[further]])
         told.append(tuple(row))
     return Table(tuple(told), tuple([fits[state] for state in states]))
+
+
+def _wider_states(table):
+    """For each state of a least table the others that have all further piles that it has."""
+    states = range(len(table.rows))
+    pairs = {
+        (state, other): True for state in states for other in states
+        if state != other and (table.fits[other] or not table.fits[state])
+    }
+    # A pair stays as long as each letter leads it to one that stays, or to one state.
+    many = len(pairs) + 1
+    while len(pairs) < many:
+        many = len(pairs)
+        pairs = {(state, other): True for state, other in pairs if _stays(table, state, other, pairs)}
+    return [tuple([other for other in states if (state, other) in pairs]) for state in states]
+
+
+def _stays(table, state, other, pairs):
+    return all([low == high or (low, high) in pairs for low, high in zip(table.rows[state], table.rows[other])])

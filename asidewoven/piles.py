@@ -21,8 +21,8 @@ def has_pile(part, pile):
 def pile_machine(part, letters):
     """The pair (rows, fits) of the part's least machine for these letters."""
     firsts, groups = groups_of((part,), letters)
-    least = least_reader(part, firsts)
-    if len(least.rows) > MAX_STATES:
+    least = least_reader(part, firsts, MAX_STATES)
+    if least is None:
         raise TooMany(MAX_STATES)
     rows = tuple([tuple([row[group] for group in groups]) for row in least.rows])
     return rows, least.fits

@@ -2,7 +2,8 @@
 
 The states of a reader are integers. start is the one behind the empty pile, behind(state, group) the one behind one
 letter more, has(state) tells whether the part has the pile. No pile is had any more behind the state dead, each one
-is behind full; either is NO_STATE if none is known. Letters that a part does not tell apart are one group.
+is behind full; either is NO_STATE if none is known. needed(states) leaves out states that some others of them make
+needless where a pile is had if any of them has it. Letters that a part does not tell apart are one group.
 """
 
 from asidewoven.parts import inner_parts
@@ -11,7 +12,10 @@ NO_STATE = -1
 
 
 class Table:
-    """A reader whose states are all known: rows has for each state the ones behind it, group by group."""
+    """A reader whose states are all known: rows has for each state the ones behind it, group by group.
+
+    wider has for each state those that have all further piles that it has, and more, as far as they are known.
+    """
 
     def __init__(self, rows, fits):
         self.rows = rows
@@ -19,12 +23,19 @@ class Table:
         self.start = 0
         self.dead = self._staying(False)
         self.full = self._staying(True)
+        self.wider = [() for _ in rows]
 
     def behind(self, state, group):
         return self.rows[state][group]
 
     def has(self, state):
         return self.fits[state]
+
+    def needed(self, states):
+        return [
+            state for state in sorted(set(states))
+            if state != self.dead and not any([other in states for other in self.wider[state]])
+        ]
 
     def _staying(self, fit):
         """The first state that is never left and has all its piles, or none."""
@@ -57,6 +68,9 @@ class Numbered:
 
     def has(self, state):
         return self.fits[state]
+
+    def needed(self, states):
+        return [state for state in sorted(set(states)) if state != self.dead]
 
     def _number_of(self, shape):
         if shape not in self.numbers:
@@ -131,7 +145,7 @@ class Row:
             states = lots[place] + [inner.start] if begins else lots[place]
             if inner.full in states and self.tails[place]:
                 return "full"
-            found.extend([(place, state) for state in sorted(set(states)) if state != inner.dead])
+            found.extend([(place, state) for state in inner.needed(states)])
             begins = any([inner.has(state) for state in states])
         return tuple(found) if len(found) > 0 else "dead"
 
@@ -157,7 +171,7 @@ class Star:
             states = states + [self.inner.start]
         if self.inner.full in states:
             return "full"
-        found = tuple([state for state in sorted(set(states)) if state != self.inner.dead])
+        found = tuple(self.inner.needed(states))
         return (cut,) + found if cut or len(found) > 0 else "dead"
 
 

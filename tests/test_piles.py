@@ -177,6 +177,26 @@ class PileMachine(unittest.TestCase):
                 self.assertIs(caught.exception.__class__, TooMany)
                 self.assertEqual(repr(caught.exception.limit), "64")
 
+    def test_states_that_are_within_others(self):
+        # Unlike ways to have cut a pile can be very many, and most of them make no difference.
+        inner = ("row", (("star", ZERO), ZERO, ("star", ("row", (ANY, ANY, ("letters", (0, 1)), ANY))), ANY))
+        for part in (
+            ("row", (("not", ANY), ONE, inner, ZERO)), ("star", ("row", (inner, ONE))), ("star", ("row", (("not", ANY), inner))),
+            ("row", (("not", ZERO), inner, ("or", (ZERO, ("row", (ONE, ONE)))))), ("row", (("star", ("or", (ZERO, inner))), ONE)),
+        ):
+            self.check(part, (0, 1), 7)
+        self.assertEqual(len(pile_machine(("row", (("not", ANY), ONE, inner, ZERO)), (0, 1))[0]), 24)
+
+    def test_very_many_states(self):
+        some = ("letters", (0, 1))
+        for part in (
+            ("star", ("row", (("row", (some, ("not", some), ANY, ZERO, ("row", (ANY, ANY, ANY)), ANY, ANY)), ANY, ANY))),
+            ("star", ("row", (some, ("not", ANY), ZERO, ("row", (some, ANY, ("row", (ANY, some, ANY, ANY)), some)), some))),
+            ("row", (("not", ANY), ONE, ("star", ("row", (("row", (("star", ONE), ANY, ANY, ANY, some)), some, some))), ANY)),
+        ):
+            with self.assertRaises(TooMany):
+                pile_machine(part, (0, 1))
+
     def test_many_states_on_the_way_to_few(self):
         self.assertEqual(pile_machine(window(12), (0,))[1], (False,) * 13 + (True,))
         self.assertEqual(pile_machine(window(12), (1,)), (((0,),), (False,)))
