@@ -286,6 +286,43 @@ class Parting(unittest.TestCase):
         asides = (aside(5, "before", TELLS, BELOW),)
         self.check(program, asides, function(0, 0), function(0, 1), (2, 5, 1))
 
+    def check_behind(self, row, kind, fewest, asides=(), ahead=()):
+        """The nodes of function 0 are unlike behind a fault of this kind alone that this row has."""
+        rows = (("try", (row,), (kind,), 0, (TELL,)),)
+        call = ("try", (CALL,), tuple(range(10)), 0, ())
+        main = 2 + len(ahead)
+        program = ((4,), ((0, rows), (0, (call,))) + ahead + ((0, (call, ("call", 0, 1, ()))),))
+        asides = (aside(5, "before", TELLS, BELOW),) + asides
+        oracle = NodeOracle(program, asides, ())
+        node, other = oracle.at((main, 0)), oracle.at((main, 1, 0))
+        self.check(program, asides, node, other)
+        self.assertEqual(len(parting(program, asides, node, other)[2]), fewest)
+
+    def test_behind_faults_of_each_kind(self):
+        gets = (("get", None),)
+        call = ("call", 0, 2, ())
+        self.check_behind(call, 3, 1, ahead=((0, ()),))
+        self.check_behind(call, 7, 1, ahead=((0, (("fault", 7),)),))
+        self.check_behind(call, 2, 2, ahead=((0, (("ask", 0),)),))
+        self.check_behind(call, 7, 2, ahead=((0, (("if", SLOT, (), (("fault", 7),)),)),))
+        self.check_behind(("ask", 0), 2, 1)
+        self.check_behind(("set", 0, ("part", SUM, ONE)), 0, 1)
+        self.check_behind(("set", 0, ("part", SUM, ONE)), 1, 1)
+        self.check_behind(("fault", 9), 9, 0)
+        for form in ("before", "behind", "around"):
+            for test, more in ((ONE, 0), (SLOT, 1)):
+                self.check_behind(("get", 0, 0), 3, 1 + more, (aside(6, form, gets, EVERY, test),))
+                self.check_behind(("get", 0, 0), 7, 1 + more, (aside(6, form, gets, EVERY, test, (("fault", 7),)),))
+                self.check_behind(("get", 0, 0), 2, 2 + more, (aside(6, form, gets, EVERY, test, (("ask", 0),)),))
+        # An aside that is passed over, or that answers, or comes to its end, with a further one behind it.
+        faulty = aside(7, "before", gets, EVERY, ONE, (("fault", 7),))
+        for form, rows, few in (("before", (), 2), ("before", (("answer", ONE),), 2), ("behind", (), 2), ("around", (("on", 0, ()),), 2)):
+            self.check_behind(("get", 0, 0), 7, few, (aside(6, form, gets, EVERY, ONE, rows), faulty))
+        for form in ("before", "behind", "around"):
+            self.check_behind(("get", 0, 0), 7, 2, (aside(6, form, gets, EVERY, SLOT, (("answer", ONE),)), faulty))
+        self.check_behind(("ask", 0), 2, 2, (aside(6, "behind", (("ask", None),), EVERY, ONE),))
+        self.check_behind(("ask", 0), 2, 2, (aside(6, "around", (("ask", None),), EVERY, ONE, (("on", 0, ()),)),))
+
     def test_further_down(self):
         part = ("row", (EVERY, ("letters", (2,)), EVERY))
         program = ((), ((0, (TELL,)), (0, (CALL,)), (0, (("call", 0, 1, ()),)), (0, (("call", 0, 1, ()), ("call", 0, 2, ())))))
@@ -366,7 +403,7 @@ class Parting(unittest.TestCase):
         self.assertGreater(parted, 30)
 
     def test_alike_nodes_have_the_same_notes(self):
-        for seed in range(150):
+        for seed in range(50):
             program, asides, _ = made(seed)
             source = random.Random(seed)
             first = {}

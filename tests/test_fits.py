@@ -207,7 +207,7 @@ class Settled(unittest.TestCase):
 
 class WhatFitsHangOn(unittest.TestCase):
     def test_by_moment_and_states_alone(self):
-        for seed in range(40):
+        for seed in range(16):
             making = Making(random.Random(seed))
             program = making.program()
             asides = making.asides(program, 3)
