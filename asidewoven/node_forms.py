@@ -37,7 +37,7 @@ class NodeForms:
     def first_node(self):
         return self.node_at((self.many_functions - 1,))
 
-    def rest_at(self, states, kind, number):
+    def fitting(self, states, kind, number):
         """The places of the asides that fit a moment in these states."""
         return tuple([
             place for place, aside in enumerate(self.listed)

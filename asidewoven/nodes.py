@@ -54,7 +54,7 @@ def way_holds(program, asides, begins, node, value):
         return False
     if not all([spread.is_come_to(item) for item in value]):
         return False
-    opened = [further in spread.opened(one) for one, further in zip(value, value[1:])]
+    opened = [further in spread.opened_by(one) for one, further in zip(value, value[1:])]
     return value[0] in spread.first and value[-1] == node and all(opened)
 
 
@@ -81,7 +81,7 @@ def dead(program, asides):
 def ringing(program, asides):
     """Nodes of asides of which each opens the one behind it, and the last one the first; None if there are none."""
     spread = spread_of(program, asides, ())
-    opened = {node: [further for further in spread.opened(node) if further[0] < 0] for node in spread.nodes()}
+    opened = {node: [further for further in spread.opened_by(node) if further[0] < 0] for node in spread.nodes()}
     staying = _without_ends({node: opened[node] for node in opened if node[0] < 0})
     if len(staying) == 0:
         return None
@@ -110,7 +110,7 @@ def _shortest_way(spread, value):
     come_to = list(ahead)
     at = 0
     while at < len(come_to):
-        for further in spread.opened(come_to[at]):
+        for further in spread.opened_by(come_to[at]):
             if further not in ahead:
                 ahead[further] = come_to[at]
                 come_to.append(further)

@@ -20,19 +20,19 @@ class Side:
         self.moment = moment
         # Asides that are never opened have no note.
         self.rest = rest
-        while len(self.rest) > 0 and self.aside()[4] == ("n", 0):
+        while len(self.rest) > 0 and self.first_aside()[4] == ("n", 0):
             self.rest = self.rest[1:]
 
-    def aside(self):
+    def first_aside(self):
         return self.forms.listed[self.rest[0]]
 
     def others(self):
         return Side(self.forms, self.states, self.moment, self.rest[1:])
 
-    def linked(self):
+    def linked_node(self):
         return self.forms.linked(self.states, self.moment, self.rest)
 
-    def called(self):
+    def called_node(self):
         return self.forms.called(self.states, self.moment[1])
 
 
@@ -50,18 +50,18 @@ class Race:
         self.outcomes = {}
         self.openings = {}
         self.unlike = None
-        end = self._do_rows(forms.plans[pair[0][0]], (0, None), self.outcomes)
+        end = self._race_rows(forms.plans[pair[0][0]], (0, None), self.outcomes)
         _keep(self.outcomes, "end", end)
 
-    def _do_rows(self, plans, way, faults):
+    def _race_rows(self, plans, way, faults):
         """The way to the end of the rows, from the way to their beginning; their faults are added to faults."""
         for plan in plans:
             if way is None:
                 return None
-            way = self._do_row(plan, way, faults)
+            way = self._race_row(plan, way, faults)
         return way
 
-    def _do_row(self, plan, way, faults):
+    def _race_row(self, plan, way, faults):
         if len(plan.faults) > 0:
             for at, kind in enumerate(plan.faults):
                 _keep(faults, kind, longer(way, at + 1))
@@ -75,37 +75,37 @@ class Race:
             _keep(faults, plan.item[1], way)
             return None
         if plan.word == "if":
-            return self._do_if(plan, way, faults)
+            return self._race_if(plan, way, faults)
         if plan.word == "try":
-            return self._do_try(plan, way, faults)
+            return self._race_try(plan, way, faults)
         found = self._run_rest(way, self._side(plan, self.pair[0]), self._side(plan, self.pair[1]))
         for outcome in found:
             if outcome != "answer":
                 _keep(faults, outcome, found[outcome])
         return found.get("answer")
 
-    def _do_if(self, plan, way, faults):
+    def _race_if(self, plan, way, faults):
         if plan.item[1][0] == "n":
-            return self._do_rows(plan.first if plan.begins_first else plan.second, way, faults)
-        first = self._do_rows(plan.first, longer(way, 1), faults)
-        return shorter(first, self._do_rows(plan.second, longer(way, 0), faults))
+            return self._race_rows(plan.first if plan.begins_first else plan.second, way, faults)
+        first = self._race_rows(plan.first, longer(way, 1), faults)
+        return shorter(first, self._race_rows(plan.second, longer(way, 0), faults))
 
-    def _do_try(self, plan, way, faults):
+    def _race_try(self, plan, way, faults):
         own = {}
-        end = self._do_rows(plan.first, way, own)
+        end = self._race_rows(plan.first, way, own)
         caught = None
         for kind in own:
             if kind in plan.item[2]:
                 caught = shorter(caught, own[kind])
             else:
                 _keep(faults, kind, own[kind])
-        return shorter(end, self._do_rows(plan.second, caught, faults))
+        return shorter(end, self._race_rows(plan.second, caught, faults))
 
     def _side(self, plan, node):
         _, states, moment, rest = node
         if plan.word == "on":
             return Side(self.forms, states, moment, rest)
-        rest = self.forms.rest_at(states, plan.word, plan.number)
+        rest = self.forms.fitting(states, plan.word, plan.number)
         return Side(self.forms, states, (plan.word, plan.number), rest)
 
     def _run_rest(self, way, one, other):
@@ -113,11 +113,11 @@ class Race:
         if way is None:
             return {}
         if one.rest[:1] == other.rest[:1]:
-            return self._do_deed(way, one, other) if len(one.rest) == 0 else self._run_link(way, one, other)
+            return self._race_deed(way, one, other) if len(one.rest) == 0 else self._run_link(way, one, other)
         if len(one.rest) == 0 or (len(other.rest) > 0 and other.rest[0] < one.rest[0]):
             one, other = other, one
         # The first aside of one is not in the rest of other: what it notes first is noted by one alone.
-        if one.aside()[1] != "behind":
+        if one.first_aside()[1] != "behind":
             self._differ(way)
             return {}
         found = self._run_rest(way, one.others(), other)
@@ -129,12 +129,12 @@ class Race:
         self.unlike = shorter(self.unlike, way)
 
     def _run_link(self, way, one, other):
-        form = one.aside()[1]
+        form = one.first_aside()[1]
         if form == "behind":
             return self._run_behind(way, one, other)
         opens, passes = self._test(way, one)
         found = {}
-        ended = self._begin(opens, one.linked(), other.linked(), found)
+        ended = self._begin(opens, one.linked_node(), other.linked_node(), found)
         if form == "before":
             passes = shorter(passes, ended)
         else:
@@ -149,24 +149,24 @@ class Race:
             opens, passes = self._test(others[outcome], one)
             _keep(found, outcome, passes)
             _keep(found, 3, longer(opens, 1))
-            body = self._open(longer(opens, 0), one.linked(), other.linked())
+            body = self._open(longer(opens, 0), one.linked_node(), other.linked_node())
             for further in body:
                 _keep(found, outcome if further == "end" else further, body[further])
         return found
 
     def _test(self, way, side):
         """The ways to the opening of the first aside's body, and to passing it over."""
-        if side.aside()[4][0] == "n":
+        if side.first_aside()[4][0] == "n":
             return way, None
         return longer(way, 1), longer(way, 0)
 
-    def _do_deed(self, way, one, other):
+    def _race_deed(self, way, one, other):
         if one.moment != other.moment:
             self._differ(way)
             return {}
         if one.moment[0] == "call":
             found = {}
-            _keep(found, "answer", self._begin(way, one.called(), other.called(), found))
+            _keep(found, "answer", self._begin(way, one.called_node(), other.called_node(), found))
             return found
         if one.moment[0] == "ask":
             return _without_none({"answer": longer(way, 0), 2: longer(way, 1)})

@@ -157,16 +157,16 @@ class Star:
         self.inner = inner
 
     def beginning(self):
-        return self._begun([], True)
+        return self._with_cut([], True)
 
     def moved(self, shape, group):
         states = [self.inner.behind(state, group) for state in shape[1:]]
-        return self._begun(states, any([self.inner.has(state) for state in states]))
+        return self._with_cut(states, any([self.inner.has(state) for state in states]))
 
     def fit(self, shape):
         return shape[0]
 
-    def _begun(self, states, cut):
+    def _with_cut(self, states, cut):
         if cut:
             states = states + [self.inner.start]
         if self.inner.full in states:

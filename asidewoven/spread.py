@@ -102,7 +102,7 @@ class Visit:
         if key not in self.known:
             moment, rest = self.moment, self.rest
             if plan.word != "on":
-                moment, rest = key, self.forms.rest_at(self.states, plan.word, plan.number)
+                moment, rest = key, self.forms.fitting(self.states, plan.word, plan.number)
             self.known[key] = told_of(self.forms, self.facts, self.states, moment, rest)
         return self.known[key]
 
@@ -139,7 +139,7 @@ class Spread:
         # Only what is a node by its form is sure to be able to stand as a key.
         return self.forms.is_node(value) and value in self.facts
 
-    def opened(self, node):
+    def opened_by(self, node):
         """The nodes that a node opens."""
         return self.visits[node].opened()
 
