@@ -2,7 +2,7 @@
 
 from asidewoven.bounds import MAX_CHOICES
 from asidewoven.errors import NoPart
-from asidewoven.lots import exchanged, lots_of
+from asidewoven.lots import exchanged, lots_of, parts_of
 from asidewoven.partings import found_parting, notes_behind, opens_node
 from asidewoven.spread import spread_of
 from asidewoven.values import is_ascending, is_tuple_of, is_within
@@ -13,11 +13,7 @@ LAST_CHOICE = 9
 def classes(program, asides, begins):
     """The classes of the nodes come to, ordered by their least nodes."""
     spread = spread_of(program, asides, begins)
-    lots = lots_of(spread)
-    found = {}
-    for node in spread.nodes():
-        found.setdefault(lots[node], []).append(node)
-    return tuple([tuple(members) for members in list(found.values())])
+    return parts_of(spread, lots_of(spread))
 
 
 def classes_hold(program, asides, begins, value):

@@ -15,6 +15,14 @@ def lots_of(spread):
     return lots
 
 
+def parts_of(spread, lots):
+    """The classes of the nodes come to, each an ascending tuple, ordered by their least nodes."""
+    found = {}
+    for node in spread.nodes():
+        found.setdefault(lots[node], []).append(node)
+    return tuple([tuple(members) for members in list(found.values())])
+
+
 def exchanged(chains, lots):
     """Chains with each node exchanged for its number in lots, or for None if it has none there."""
     return tuple([

@@ -44,6 +44,28 @@ def inner_rows(row):
     return tuple([item for sort, item in zip(ROW_ITEMS[row[0]], row[1:]) if sort == "rows"])
 
 
+def with_inner_rows(row, inner):
+    """An if or try with other rows within it."""
+    waiting = list(inner)
+    items = [row[0]]
+    for sort, item in zip(ROW_ITEMS[row[0]], row[1:]):
+        items.append(waiting.pop(0) if sort == "rows" else item)
+    return tuple(items)
+
+
+def changed_rows(rows, change, ahead=()):
+    """Rows, each exchanged for what change(place, row) tells, those within a row ahead of it.
+
+    ahead is what all places in rows begin with.
+    """
+    changed = []
+    for number, row in enumerate(rows):
+        place = ahead + (number,)
+        inner = [changed_rows(further, change, place + (which,)) for which, further in enumerate(inner_rows(row))]
+        changed.append(change(place, with_inner_rows(row, inner) if len(inner) > 0 else row))
+    return tuple(changed)
+
+
 def wrong_place(rows, scope, ahead=(), within=0):
     """The least place in rows at which there is no row, None if there is none.
 

@@ -111,7 +111,7 @@ class Spread:
     """All nodes that are come to from the first ones, with what follows for them.
 
     In an open node all rows are runnable from the outset. What is known of nodes only ever grows; each node is visited
-    again as long as more becomes known of one that it opens.
+    again as long as more becomes known of one that it opens. TooMany is raised if more than MAX_NODES are come to.
     """
 
     def __init__(self, forms, first, open_nodes):
@@ -123,13 +123,18 @@ class Spread:
         self.users = {}
         self.waiting = []
         self.queued = {}
-        for node in first:
-            self._come_to(node)
-        at = 0
-        while at < len(self.waiting):
-            self.queued[self.waiting[at]] = False
-            self._visit(self.waiting[at])
-            at += 1
+        self.most = MAX_NODES
+        self._spread_from(first)
+
+    def also_from(self, node):
+        """Comes to one node more, and to all that come of it; TooMany is raised if these are more than MAX_NODES."""
+        if node in self.facts:
+            return
+        # What is known of the nodes so far stays, as none of them opens a new one.
+        self.most = len(self.facts) + MAX_NODES
+        self._spread_from([node])
+        if len(self.facts) > MAX_NODES and self._many_from(node) > MAX_NODES:
+            raise TooMany(MAX_NODES)
 
     def nodes(self):
         """The nodes come to, ascending."""
@@ -154,9 +159,30 @@ class Spread:
                 found.append((plan.place, (), None))
         return tuple(found)
 
+    def _spread_from(self, first):
+        for node in first:
+            self._come_to(node)
+        at = 0
+        while at < len(self.waiting):
+            self.queued[self.waiting[at]] = False
+            self._visit(self.waiting[at])
+            at += 1
+        self.waiting = []
+
+    def _many_from(self, node):
+        """How many nodes are come to from one node, itself too."""
+        seen = {node: True}
+        waiting = [node]
+        while len(waiting) > 0:
+            for further in self.opened_by(waiting.pop()):
+                if further not in seen:
+                    seen[further] = True
+                    waiting.append(further)
+        return len(seen)
+
     def _come_to(self, node):
         if node not in self.facts:
-            if len(self.facts) == MAX_NODES:
+            if len(self.facts) == self.most:
                 raise TooMany(MAX_NODES)
             self.facts[node] = NOTHING
             self.users[node] = {}
