@@ -17,6 +17,10 @@ class Level:
         self.guard = guard
         self.begun = 0
 
+    def last_row(self):
+        """The row that has begun last."""
+        return self.rows[self.begun - 1]
+
 
 class Body:
     """An open body: its letter, the pile with this on top, its slots, and the rows that it is doing.
@@ -47,8 +51,7 @@ class Body:
 
     def last_row(self):
         """The row that has begun last."""
-        level = self.levels[-1]
-        return level.rows[level.begun - 1]
+        return self.levels[-1].last_row()
 
     def row_place(self):
         """The place of the row that has begun last."""
@@ -60,8 +63,17 @@ class Body:
     def enter(self, which):
         """Goes into the first or the second rows of the row that has begun last."""
         row = self.last_row()
-        guard = row if row[0] == "try" and which == 0 else None
-        self.levels.append(Level(inner_rows(row)[which], which, guard))
+        self.levels.append(Level(inner_rows(row)[which], which, _guard_in(row, which)))
+
+    def go_over(self, rows, spot):
+        """Goes on at the same place in other rows, which are the same but for their chains."""
+        self.spot = spot
+        self.levels[0].rows = rows
+        for at in range(1, len(self.levels)):
+            row = self.levels[at - 1].last_row()
+            level = self.levels[at]
+            level.rows = inner_rows(row)[level.which]
+            level.guard = _guard_in(row, level.which)
 
     def catch(self, kind):
         """Goes back to the innermost try that takes this fault; returns it, None if there is none."""
@@ -122,3 +134,8 @@ def slots_with(values):
     """The slots of a body to which these values are handed, as far as there are slots."""
     handed = list(values[:SLOTS])
     return handed + [0] * (SLOTS - len(handed))
+
+
+def _guard_in(row, which):
+    """The try that its first or second rows are guarded by, None if they are not."""
+    return row if row[0] == "try" and which == 0 else None

@@ -18,7 +18,14 @@ class PileGround:
         self.readers = [LetterReader(aside[3], letters) for aside in asides]
 
     def entry(self):
-        return self._function(len(self.functions) - 1, tuple([reader.start for reader in self.readers]))
+        return self.body_on((len(self.functions) - 1,))
+
+    def body_on(self, pile):
+        """The body of the function on top of a pile."""
+        spot = tuple([reader.start for reader in self.readers])
+        for letter in pile[:-1]:
+            spot = self._behind(spot, letter)
+        return self._function(pile[-1], spot)
 
     def rest_at(self, body, row, kind, number):
         links = tuple([

@@ -107,10 +107,10 @@ class Lines:
         self.take_begun(word).finish()
 
 
-def number_told(word):
-    """The number that is written so, None if none is."""
+def number_told(word, most=MOST_FIGURES):
+    """The number that is written so, with at most so many figures; None if none is."""
     figures = word[1:] if word.startswith("-") else word
-    if not 1 <= len(figures) <= MOST_FIGURES or not all([sign in FIGURES for sign in figures]):
+    if not 1 <= len(figures) <= most or not all([sign in FIGURES for sign in figures]):
         return None
     if figures[0] == "0" and word != "0":
         return None
