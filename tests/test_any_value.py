@@ -3,10 +3,16 @@
 import copy
 import unittest
 
-from asidewoven.errors import BadAside, BadProgram, BadText, Unfit
+from asidewoven.benches import Bench
+from asidewoven.charts import chart_error
+from asidewoven.errors import AsideError, BadAside, BadProgram, BadText, BadTurning, Unfit
+from asidewoven.judging import judge
 from asidewoven.programs import asides_error, body_at, letters_of, program_error, rows_of
+from asidewoven.shells import Shell
 from asidewoven.texts import asides_text, parse_asides, parse_program, program_text
-from samples import NO_TUPLES, ONE, REST, RIGHT_EXPRESSIONS, RIGHT_ROWS, WRONG_EXPRESSIONS, WRONG_ROWS, wide
+from asidewoven.turnings import turned, turning_error
+from asidewoven.weaving import weave
+from samples import AHEAD, NO_TUPLES, ONE, REST, RIGHT_EXPRESSIONS, RIGHT_ROWS, WRONG_EXPRESSIONS, WRONG_ROWS, wide
 
 PROGRAM = wide(*RIGHT_ROWS)
 ASIDE = (5, "around", (("call", None), ("get", 1)), ("row", (("any",), ("letters", (0, -6)))), ONE, (("on", 0, (ONE,)),))
@@ -83,6 +89,94 @@ class AnyValue(unittest.TestCase):
             self.assertEqual(asides_error(PROGRAM, value), "form")
             self.assertEqual(program_error(((), ((0, (value,)),))), ((0, 0), "row"))
             self.assertEqual(asides_error(PROGRAM, (value,)), (0, "aside"))
+
+
+class AnyChartOrTurning(unittest.TestCase):
+    """In the place of a chart, of a turning, and of each thing in them."""
+
+    PROGRAM = ((7,), ((0, (("tell", ONE),)), (0, (("call", 0, 0, ()), ("call", 0, 1, ())))))
+    ASIDES = ((5, "around", (("tell", None),), ("row", (("any",), ("any",))), ONE, (("on", 0, ()),)),)
+    WOVEN, CHART = weave(PROGRAM, ASIDES, ())
+
+    def test_charts(self):
+        for other in VALUES + (self.WOVEN, self.CHART, Bench(self.PROGRAM, ()), Unfit()):
+            for value in replaced(self.CHART, other):
+                with self.subTest(value=repr(value)[:200]):
+                    told = chart_error(self.WOVEN, value)
+                    self.assertTrue(told in (None, "form") or (told[0] == "copy" and told[1].__class__ is int))
+                    answer = judge(self.PROGRAM, self.ASIDES, (), self.WOVEN, value)
+                    if told is not None:
+                        self.assertEqual(answer, ("chart", told))
+                    elif answer is not None:
+                        self.assertIn(answer[0], ("node", "entry", "chain"))
+
+    def test_turnings(self):
+        handed = (self.PROGRAM, self.ASIDES, (), self.WOVEN, self.CHART)
+        at = [number for number, item in enumerate(self.CHART) if len(item) > 1][0]
+        for turning in (("order", tuple(range(len(self.CHART)))), ("split", at, self.CHART[at][:1]), ("join", ((0, 1),)), ("drop",)):
+            for other in VALUES + (self.WOVEN, self.CHART, Bench(self.PROGRAM, ()), Unfit()):
+                for value in replaced(turning, other):
+                    with self.subTest(value=repr(value)[:200]):
+                        told = turning_error(*handed, value)
+                        if told is None:
+                            self.assertIsNone(judge(*handed[:3], *turned(*handed, value)))
+                            continue
+                        self.assertTrue(told in ("form", "copies", "nodes", "letters") or told[0] in ("mixed", "rows"))
+                        with self.assertRaises(BadTurning) as caught:
+                            turned(*handed, value)
+                        self.assertEqual(caught.exception.error, told)
+
+
+class AnyForBenches(unittest.TestCase):
+    """In the place of each argument of each method."""
+
+    CALLS = (
+        ("row", (0, (0,), REST)), ("put", (0, ASIDES[1])), ("out", (0,)), ("swap", (0, 0)), ("batch", ((("out", 0), ("row", 0, (0,), REST)),)), ("at", (0,)), ("told", ((1, 2), 9)),
+    )
+
+    def test_benches(self):
+        program = ((7, 8), ((0, (REST,)), (0, (REST,))) + AHEAD[2:] + ((0, (("tell", ONE),)),))
+        for other in VALUES + (Bench(program, ()), Unfit()):
+            for value in replaced((program, ()), other):
+                try:
+                    Bench(*value if isinstance(value, tuple) and len(value) == 2 else (value, value))
+                except (BadAside, BadProgram):
+                    pass
+            for call, handed in self.CALLS:
+                for value in replaced(handed, other):
+                    if isinstance(value, tuple) and len(value) == len(handed):
+                        bench = Bench(program, ASIDES[:1])
+                        self.check(bench, call, value)
+
+    def check(self, bench, call, handed):
+        before = repr((bench.program, bench.asides, bench.version))
+        with self.subTest(call=call, handed=repr(handed)[:200]):
+            try:
+                getattr(bench, call)(*handed)
+            except AsideError:
+                self.assertEqual(repr((bench.program, bench.asides, bench.version)), before)
+            else:
+                self.assertEqual(bench.version, 0 if call in ("at", "told") else 1)
+                self.assertIsNone(program_error(bench.program))
+                self.assertIsNone(asides_error(bench.program, bench.asides))
+
+    def test_items_and_equality(self):
+        bench = Bench(PROGRAM, ASIDES)
+        for value in VALUES + (Bench(PROGRAM, ()), Unfit()):
+            with self.subTest(value=repr(value)[:200]):
+                self.assertIs(bench == value, False)
+                self.assertIs(bench != value, True)
+                if value.__class__ is not int:
+                    with self.assertRaises(Unfit):
+                        bench[value]
+
+    def test_shells(self):
+        told = Shell(), Shell()
+        self.assertEqual(told[1].say("program " + program_text(PROGRAM)), "ok")
+        for value in VALUES + (told[0], Unfit()):
+            for shell in told:
+                with self.subTest(value=repr(value)[:200]):
+                    self.assertEqual(shell.say(value), "what")
 
 
 class AnyText(unittest.TestCase):

@@ -90,6 +90,45 @@ FUNCTIONS = {
         "parting": ("program", "asides", "node", "other"),
         "parting_holds": ("program", "asides", "node", "other", "value"),
     },
+    "weaving": {
+        "weave": NODES,
+        "copies_of": ("woven", "letter"),
+        "run_woven": ("woven", "inputs", "steps"),
+        "free_woven": ("woven", "choices"),
+    },
+    "charts": {"chart_error": ("woven", "value")},
+    "judging": {"judge": NODES + ("woven", "chart")},
+    "turnings": {
+        "turning_error": NODES + ("woven", "chart", "turning"),
+        "turned": NODES + ("woven", "chart", "turning"),
+    },
+    "exchange": {
+        "run_exchanged": ("program", "asides", "changes", "inputs", "steps"),
+        "run_handed": ("program", "asides", "changes", "inputs", "steps"),
+    },
+    "why": {"why": RUN + ("number",), "first_unlike": ("program", "asides", "others", "inputs", "steps")},
+}
+
+# The methods of each class that are called by their names, with their arguments behind the object's own.
+CLASSES = {
+    "benches": {
+        "Bench": {
+            "__init__": ("program", "asides"),
+            "told": ("inputs", "steps"),
+            "woven": (),
+            "row": ("f", "place", "row"),
+            "put": ("place", "aside"),
+            "out": ("place",),
+            "swap": ("place", "further"),
+            "batch": ("edits",),
+            "undo": (),
+            "redo": (),
+            "at": ("version",),
+            "copy": (),
+            "attempt": ("work",),
+        },
+    },
+    "shells": {"Shell": {"say": ("line",)}},
 }
 
 HANDED = {
@@ -110,9 +149,20 @@ HANDED = {
     "b": 0,
     "choices": (0, 0, 1),
     "node": (0, (2,), None, ()),
+    "turning": ("order", (1, 0)),
+    "changes": (),
 }
 
 MAIN, UNDER = (1, (1,), None, ()), (0, (2,), None, ())
+
+# What weave tells of the program and the asides handed, for the begins handed.
+CHART = ((UNDER,), (MAIN,))
+WOVEN = ((1,), (("around", ("n", 1)),), (
+    (0, (("tell", ("v", 0), ((), ("tell", None, -1))),)), (1, (("call", 0, 0, (("n", 7),), ((), ("call", 0, 0))),)),
+), 1)
+TURNED = ((1,), WOVEN[1], (
+    (1, (("call", 0, 0, (("n", 7),), ((), ("call", 0, 1))),)), (0, (("tell", ("v", 0), ((), ("tell", None, -1))),)),
+), 0)
 
 # Function 0 of this one has two nodes, as an aside is run at its tell where 1 is below.
 PARTED = {
@@ -122,8 +172,16 @@ PARTED = {
     "other": (0, (2,), None, ()),
 }
 
+# What is handed to those that are asked of other things.
+FURTHER = {
+    "copies_of": {"letter": 0},
+    "why": {"asides": ((4, "before", (("call", None),), ("any",), ("n", 1), (("rest",),)),), "number": 0},
+    "first_unlike": {"others": ((4, "before", (("tell", None),), ("star", ("any",)), ("n", 0), ()),)},
+}
+
 # What is handed for value.
 VALUES = {
+    "chart_error": CHART,
     "way_holds": (MAIN, UNDER),
     "classes_hold": ((UNDER,), (MAIN,)),
     "parting_holds": ((0, 0), (0, 0, 0, 0), ()),
@@ -168,6 +226,18 @@ TOLD = {
     "classes_hold": True,
     "parting": ((0, 0), (0, 0, 0, 0), ()),
     "parting_holds": True,
+    "weave": (WOVEN, CHART),
+    "copies_of": (0,),
+    "run_woven": ((("tell", 7),), ("answer", 0), 2),
+    "free_woven": ((("body", 1), ("body", 0), ("deed", "tell", None), ("end", 0), ("end", 1)), ()),
+    "chart_error": None,
+    "judge": None,
+    "turning_error": None,
+    "turned": (TURNED, (CHART[1], CHART[0])),
+    "run_exchanged": ((("tell", 7),), ("answer", 0), 2, 0),
+    "run_handed": ((("tell", 7),), ("answer", 0), 2, 0, (2,)),
+    "why": ((1,), 0, (1,)),
+    "first_unlike": (1, (), (0,)),
 }
 
 
@@ -240,7 +310,8 @@ class Functions(unittest.TestCase):
                     yield getattr(importlib.import_module(f"asidewoven.{module}"), name), name, module, arguments
 
     def given(self, name, arguments):
-        handed = {**HANDED, **PARTED} if name.startswith("parting") else HANDED
+        handed = {**HANDED, "woven": WOVEN, "chart": CHART, **FURTHER.get(name, {})}
+        handed = {**handed, **PARTED} if name.startswith("parting") else handed
         return {argument: VALUES[name] if argument == "value" else handed[argument] for argument in arguments}
 
     def test_each_is_defined_in_its_module(self):
@@ -257,6 +328,42 @@ class Functions(unittest.TestCase):
                 self.assertEqual(repr(function(**given)), repr(TOLD[name]))
                 self.assertEqual(repr(function(**dict(reversed(list(given.items()))))), repr(TOLD[name]))
             self.assertEqual(repr(given), before)
+
+
+class Classes(unittest.TestCase):
+    def classes(self):
+        for module, classes in CLASSES.items():
+            for name, methods in classes.items():
+                yield getattr(importlib.import_module(f"asidewoven.{module}"), name), name, module, methods
+
+    def test_each_is_defined_in_its_module_with_its_methods(self):
+        for made, name, module, methods in self.classes():
+            self.assertEqual((made.__name__, made.__module__), (name, f"asidewoven.{module}"))
+            for method, arguments in methods.items():
+                with self.subTest(name=name, method=method):
+                    self.assertIn(method, vars(made))
+                    self.assertEqual(tuple(inspect.signature(vars(made)[method]).parameters)[1:], arguments)
+
+    def test_a_shell_is_made_of_nothing(self):
+        for made, name, _, _ in self.classes():
+            if name == "Shell":
+                self.assertEqual(tuple(inspect.signature(made).parameters), ())
+
+    def test_methods_by_place_and_by_name(self):
+        from asidewoven.benches import Bench
+
+        program, asides = HANDED["program"], HANDED["asides"]
+        one, other = Bench(program, asides), Bench(asides=asides, program=program)
+        new = (3, "before", (("tell", None),), ("any",), ("n", 1), ())
+        for method, handed in (("row", (1, (0,), ("rest",))), ("put", (1, new)), ("swap", (0, 1)), ("out", (0,)), ("batch", ((),)), ("undo", ()), ("redo", ()), ("at", (2,)), ("told", ((), 9)), ("attempt", (len,)), ("woven", ())):
+            names = CLASSES["benches"]["Bench"][method]
+            named = dict(reversed(list(zip(names, handed))))
+            self.assertEqual(repr(getattr(one, method)(*handed)), repr(getattr(other, method)(**named)), method)
+            self.assertEqual(one, other)
+
+    def test_all_modules_of_the_interface_are_there(self):
+        for module in ("bounds", "errors", "programs", "texts", "machine", "piles", "fits", "nodes", "free", "classes", "weaving", "charts", "judging", "turnings", "exchange", "why", "benches", "shells"):
+            importlib.import_module(f"asidewoven.{module}")
 
 
 if __name__ == "__main__":
