@@ -1,7 +1,8 @@
 """Benches: programs with asides that edits change, and that are taken back ([L1] to [L3])."""
 
 from asidewoven.bounds import MAX_EDITS, MAX_INPUTS, MAX_STEPS
-from asidewoven.edits import check_asides, check_program, edited, edited_all, is_batch
+from asidewoven.checks import check_asides, check_program
+from asidewoven.edits import edited, edited_all, is_batch
 from asidewoven.errors import AsideError, BadBatch, NothingToRedo, NothingToUndo, NoVersion, TooManyEdits, Unfit
 from asidewoven.expressions import is_number
 from asidewoven.machine import run

@@ -63,17 +63,17 @@ class Body:
     def enter(self, which):
         """Goes into the first or the second rows of the row that has begun last."""
         row = self.last_row()
-        self.levels.append(Level(inner_rows(row)[which], which, _guard_in(row, which)))
+        guard = row if row[0] == "try" and which == 0 else None
+        self.levels.append(Level(inner_rows(row)[which], which, guard))
 
     def go_over(self, rows, spot):
         """Goes on at the same place in other rows, which are the same but for their chains."""
         self.spot = spot
         self.levels[0].rows = rows
+        # The tries that guard levels stay: of them kinds and slots alone are read, which have no chains.
         for at in range(1, len(self.levels)):
-            row = self.levels[at - 1].last_row()
             level = self.levels[at]
-            level.rows = inner_rows(row)[level.which]
-            level.guard = _guard_in(row, level.which)
+            level.rows = inner_rows(self.levels[at - 1].last_row())[level.which]
 
     def catch(self, kind):
         """Goes back to the innermost try that takes this fault; returns it, None if there is none."""
@@ -134,8 +134,3 @@ def slots_with(values):
     """The slots of a body to which these values are handed, as far as there are slots."""
     handed = list(values[:SLOTS])
     return handed + [0] * (SLOTS - len(handed))
-
-
-def _guard_in(row, which):
-    """The try that its first or second rows are guarded by, None if they are not."""
-    return row if row[0] == "try" and which == 0 else None

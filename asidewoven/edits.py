@@ -1,27 +1,11 @@
 """Edits of a program and its asides, each one told by its word and by what it is handed ([L2])."""
 
 from asidewoven.bounds import BATCH, MAX_ASIDES
-from asidewoven.errors import AsideError, BadAside, BadProgram, Rejected, TooMany, Unfit
-from asidewoven.programs import asides_error, program_error, rows_of
+from asidewoven.checks import check_asides, check_program
+from asidewoven.errors import AsideError, Rejected, TooMany, Unfit
+from asidewoven.programs import rows_of
 from asidewoven.rows import changed_rows
 from asidewoven.values import is_integer, is_place, is_tuple_of
-
-
-def check_program(program):
-    """BadProgram is raised if this is no program."""
-    error = program_error(program)
-    if error is not None:
-        raise BadProgram(error)
-
-
-def check_asides(program, asides):
-    """BadAside is raised if these are no asides of the program."""
-    error = asides_error(program, asides)
-    if error == "form":
-        raise BadAside(None, error)
-    if error is not None:
-        place, word = error
-        raise BadAside(place, word)
 
 
 def with_row(state, f, place, row):

@@ -5,7 +5,7 @@ def lots_of(spread):
     """The number of the class of each node come to; the classes are numbered by their least nodes."""
     nodes = spread.nodes()
     chains = {node: spread.chains(node) for node in nodes}
-    opened = {node: _opened_in_order(chains[node]) for node in nodes}
+    opened = {node: spread.opened_by_kinds(node) for node in nodes}
     lots = _numbered({node: (node[0], exchanged(chains[node], {})) for node in nodes})
     known = 0
     # Classes are only ever cut, where the chains of their nodes lead to several ones.
@@ -33,16 +33,6 @@ def exchanged(chains, lots):
         )
         for place, links, deed in chains
     ])
-
-
-def _opened_in_order(chains):
-    """The nodes that stand in chains, one behind another."""
-    found = []
-    for _, links, deed in chains:
-        found.extend([node for _, node in links])
-        if deed is not None and deed[2] is not None:
-            found.append(deed[2])
-    return found
 
 
 def _numbered(marks):

@@ -19,16 +19,16 @@ class Split:
         self.chart = chart[:copy] + (others,) + chart[copy + 1:] + (some,)
         self.spread = spread_of(*source)
         self.error = None
-        self.copies = []
+        self.made = []
         for place, (letter, rows) in enumerate(copies + (copies[copy],)):
-            self.copies.append((letter, self._looked_at(place, rows)))
+            self.made.append((letter, self._looked_at(place, rows)))
 
     def result(self):
         """The weaving and the chart behind the split."""
         first = self.first_copy
         if first == self.old and self.spread.forms.first_node() in self.some:
             first = self.new
-        return (self.cells, self.tests, tuple(self.copies), first), self.chart
+        return (self.cells, self.tests, tuple(self.made), first), self.chart
 
     def _looked_at(self, copy, rows):
         """The rows of a copy, with the new copy named where the nodes are its."""

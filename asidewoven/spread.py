@@ -148,6 +148,13 @@ class Spread:
         """The nodes that a node opens."""
         return self.visits[node].opened()
 
+    def opened_by_kinds(self, node):
+        """The nodes that a node opens, in order, for each kind and number of its rows once."""
+        found = []
+        for telling in list(self.visits[node].known.values()):
+            found.extend(telling.opened())
+        return found
+
     def chains(self, node):
         """A triple (place, links, deed) for each row of a node's body that has a moment."""
         tellings = self.visits[node].tellings

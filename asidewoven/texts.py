@@ -1,8 +1,9 @@
 """Texts of programs and of asides ([A11] to [A14])."""
 
-from asidewoven.errors import BadAside, BadProgram, BadText
+from asidewoven.checks import check_asides, check_program
+from asidewoven.errors import BadText
 from asidewoven.part_texts import moment_text, part_text, read_moments, read_part
-from asidewoven.programs import FORMS, asides_error, program_error
+from asidewoven.programs import FORMS
 from asidewoven.row_texts import expression_text, line_of, lines_of, read_rows
 from asidewoven.words import Lines
 
@@ -27,9 +28,7 @@ def parse_program(value):
     while not lines.is_over():
         functions.append(_read_function(lines))
     program = (cells, tuple(functions))
-    error = program_error(program)
-    if error is not None:
-        raise BadProgram(error)
+    check_program(program)
     return program
 
 
@@ -50,12 +49,7 @@ def parse_asides(program, value):
     if not isinstance(value, str):
         raise BadText(0)
     asides = _read_asides(value)
-    error = asides_error(program, asides)
-    if error == "form":
-        raise BadAside(None, error)
-    if error is not None:
-        place, word = error
-        raise BadAside(place, word)
+    check_asides(program, asides)
     return asides
 
 

@@ -155,6 +155,16 @@ class Answers(Judged):
             wrong = (tell, rest[:2] + ((inner[:-1] + ((inner[-1][0], deed),),), ()))
             self.check(("chain", ZERO, (1, 0, 0), zero), with_copy(WOVEN, ZERO, wrong))
 
+    def test_copies_that_are_none(self):
+        # The last copy has the node, but -1 is no copy; nor are numbers beyond the last one.
+        program = ((), ((0, (TELL,)), (0, (CALL,))))
+        woven, chart = weave(program, (), ())
+        woven, chart = woven[:2] + ((woven[2][1], woven[2][0]), 0), chart[::-1]
+        self.assertEqual(judge(program, (), (), with_chain(woven, 0, 0, ((), ("call", 0, 1))), chart), None)
+        for wrong in (-1, 2, 99):
+            told = judge(program, (), (), with_chain(woven, 0, 0, ((), ("call", 0, wrong))), chart)
+            self.assertEqual(told, ("chain", 0, (0,), function(1)))
+
     def test_deeds_of_other_numbers(self):
         program = ((1, 2), ((0, (("get", 0, 0), ("put", 1, ONE))),))
         woven, chart = weave(program, (), ())
@@ -326,6 +336,24 @@ class TooManyOf(Judged):
             self.raised(2000, both, asides, (), woven, (item, (one,), (two,), (main,)))
         with self.assertRaises(TooMany):
             chains(both, asides, (), two)
+
+    def test_just_two_thousand_from_a_node_of_the_chart(self):
+        # As many nodes as 1980 lots of states, and 1 + 2 + 3 + 4 more for the functions 1 to 4, and one for each further one.
+        asides = tuple(aside(name, "before", (("ask", None),), ("star", ("row", (("any",),) * length))) for name, length in enumerate((4, 9, 5, 11)))
+        for further, many in ((0, 1996), (3, 1999), (4, 2000), (5, 2001)):
+            functions = [(CALL,)] + [(("call", 0, f + 1, ()),) for f in range(1, 5)] + [()] * (1 + further)
+            hub = len(functions)
+            functions.append(tuple(("call", 0, f, ()) for f in range(1, hub)) + (CALL,))
+            program = ((), tuple((0, rows) for rows in functions + [()]))
+            main = (hub + 1, (1, 1, 1, 1), None, ())
+            node = (hub, (0, 0, 0, 0), None, ())
+            woven = ((), (("before", ONE),) * 4, ((hub, ()), (hub + 1, ())), 1)
+            # The main function opens nothing: all comes of the one node, and there is one more of the main function.
+            self.assertEqual(nodes(program, asides, ()), (main,))
+            if many > 2000:
+                self.raised(2000, program, asides, (), woven, ((node,), (main,)))
+            else:
+                self.check(("rows", 0), woven, ((node,), (main,)), (), program, asides)
 
     def test_two_thousand_copies(self):
         program = ((), ((1, (("if", SLOT, (("call", 0, 0, (SLOT,)), TELL), ()),)), (0, (("call", 0, 0, (ONE,)),))))
