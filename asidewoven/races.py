@@ -242,7 +242,7 @@ class Races:
     def _run(self, pair):
         race = Race(self.forms, self.lots, pair, self.known)
         self.races[pair] = race
-        for further in race.openings:
+        for further in list(race.openings):
             self._come_to(further)
             self.users[further][pair] = True
         if _lengths(race.outcomes) != _lengths(self.known[pair]):
