@@ -51,10 +51,12 @@ class Shell:
         """The answer to a line with this word and these numbers behind it, which has None for what is none."""
         if None in numbers:
             return UNKNOWN
+        # Only the inputs of a run can be below 0; all else that is told is a count, and a count has no sign.
+        counts = numbers[:1] if word == "run" else numbers
+        if not all([count >= 0 for count in counts]):
+            return UNKNOWN
         if word == "run":
             return self._run(numbers[0], tuple(numbers[1:])) if len(numbers) > 0 else UNKNOWN
-        if not all([number >= 0 for number in numbers]):
-            return UNKNOWN
         if word == "out" and len(numbers) == 1:
             return _version_line(self.bench.out(numbers[0]))
         if word == "swap" and len(numbers) == 2:

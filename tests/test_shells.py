@@ -217,9 +217,26 @@ class Telling(Shells):
 
     def test_runs_that_are_refused(self):
         shell = self.shell(LOUD)
-        for line in ("run -1", "run 5001", "run 999999", "run -999999", "run -1 0", "run 9" + " 0" * 201, "run 5001 -1"):
+        for line in ("run 5001", "run 999999", "run 9" + " 0" * 201, "run 5001 -1", "run 5001 1"):
             self.says(shell, line, "error Unfit")
         self.says(shell, "run 9" + " 0" * 200, "tell 8 / tell 1 / tell 0 / answer -2")
+
+    def test_steps_have_no_sign(self):
+        # STEPS is a count; "-" is for the inputs behind it, each of which may have it.
+        shell = self.shell(LOUD)
+        steps = ("-1", "-9", "-5000", "-5001", "-999999", "-0")
+        self.no_words(shell, *[f"run {count}{inputs}" for count in steps for inputs in ("", " 0", " 1", " -1", " 1 -2", " 0" * 201)])
+        self.says(shell, "run 9 -1", "tell 8 / tell 1 / tell -1 / answer -2")
+        self.says(shell, "run 9 -1 -2 3", "tell 8 / tell 1 / tell -1 / answer -2")
+        self.says(shell, "run 0 -1", "bound")
+        self.no_words(shell, "run 9 -0", "run 9 1 -0", "run 9 -01")
+        self.says(Shell(), "run -9 1", "no bench")
+
+    def test_signs_in_runs_of_a_program_that_asks(self):
+        shell = Shell()
+        self.says(shell, "program cells none / function 0 / ask 0 / tell v0 / end", "ok")
+        for line, wanted in (("run -9 1", "what"), ("run -1", "what"), ("run 9 -1", "tell -1 / answer 0"), ("run 5001 1", "error Unfit"), ("run -0", "what"), ("run 9 -0", "what")):
+            self.says(shell, line, wanted)
 
     def test_counts(self):
         shell = self.shell(LOUD)
